@@ -156,6 +156,14 @@ func less(x uint64, y uint64) uint64 {
 	return 0
 }
 
+// bitLen is the number of places of the binary form, 0 for 0.
+func (a nat) bitLen() int {
+	if len(a) == 0 {
+		return 0
+	}
+	return (len(a)-1)*limbBits + bits.Len64(a[len(a)-1])
+}
+
 func (a nat) compare(b nat) int {
 	if len(a) != len(b) {
 		return cmp.Compare(len(a), len(b))
