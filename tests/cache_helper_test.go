@@ -69,12 +69,16 @@ func shardMeant(c impl.CacheConfig, k impl.Key) int { return ((k.K+5200)*7 + k.W
 
 func homeMeant(c impl.CacheConfig, k impl.Key) int { return (k.K + 5200 + 3*k.W) % c.Slots }
 
+func newMeantCache(c impl.CacheConfig, tasks int) *meantCache {
+	return &meantCache{
+		shape: c, slots: make([]meantSlot, c.Shards*c.Slots), hands: make([]int, c.Shards),
+		searches: make([]meantSearch, tasks), evicted: map[impl.Key]bool{}, met: map[string]bool{},
+	}
+}
+
 // runMeant runs at most limit steps, and tells the edges that were met.
 func runMeant(c impl.CacheConfig, tasks [][]impl.Key, picks []int, limit int) (impl.CacheReport, map[string]bool) {
-	m := &meantCache{
-		shape: c, slots: make([]meantSlot, c.Shards*c.Slots), hands: make([]int, c.Shards),
-		searches: make([]meantSearch, len(tasks)), evicted: map[impl.Key]bool{}, met: map[string]bool{},
-	}
+	m := newMeantCache(c, len(tasks))
 	m.report = impl.CacheReport{OK: true, TaskSteps: make([]int, len(tasks)), Outcomes: make([][]int, len(tasks))}
 	left := make([]int, len(tasks))
 	for t, keys := range tasks {
